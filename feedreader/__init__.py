@@ -1,0 +1,1 @@
+"""Feedreader: feeds that are published, fetched, gathered and kept."""

@@ -1,0 +1,86 @@
+"""What holds for every part of the program, promise [2], and the names of the interface."""
+
+import copy
+import enum
+import importlib
+import inspect
+import unittest
+
+from feedreader import addresses, dates
+from feedreader.errors import BadAddress, BadDate, BadMoment, BadZone
+
+PARAMETERS = {
+    "dates": {
+        "is_moment": "(value)", "is_zone": "(value)", "is_date": "(value)", "date_of": "(moment, zone=0)",
+        "moment_of": "(date)", "long_text": "(date)", "short_text": "(date)", "read_long": "(text)",
+        "read_short": "(text)",
+    },
+    "addresses": {"is_address": "(value)", "resolve": "(base, text)", "shortest": "(base, address)"},
+}
+DATE = (123, 4, 9, 6, 7, 8, 330)
+
+
+class Number(enum.IntEnum):
+    """Integers that are ints, though of a class of their own."""
+
+    MOMENT = 60
+    ZONE = 30
+
+
+class OverviewTest(unittest.TestCase):
+    def test_names_and_parameters(self):
+        for file, functions in PARAMETERS.items():
+            module = importlib.import_module("feedreader." + file)
+            for name, parameters in functions.items():
+                function = getattr(module, name)
+                self.assertEqual(str(inspect.signature(function)), parameters, name)
+                self.assertEqual(function.__module__, "feedreader." + file, name)
+
+    def test_truth_values_are_no_integers(self):
+        for value in (True, False):
+            self.assertIs(dates.is_moment(value), False)
+            self.assertIs(dates.is_zone(value), False)
+            with self.assertRaises(BadMoment):
+                dates.date_of(value)
+            with self.assertRaises(BadZone):
+                dates.date_of(1, value)
+            for place in range(7):
+                date = (1,) * place + (value,) + (1,) * (6 - place)
+                self.assertIs(dates.is_date(date), False)
+
+    def test_every_other_int_is_an_integer(self):
+        self.assertIs(dates.is_moment(Number.MOMENT), True)
+        self.assertEqual(dates.date_of(Number.MOMENT, Number.ZONE), (1, 1, 1, 0, 31, 0, 30))
+
+    def test_a_list_is_no_tuple(self):
+        for call in (dates.moment_of, dates.long_text, dates.short_text):
+            with self.assertRaises(BadDate):
+                call(list(DATE))
+        self.assertIs(dates.is_date(list(DATE)), False)
+
+    def test_a_call_tells_the_same_after_errors(self):
+        before = (dates.date_of(5, 60), addresses.shortest("//h/a", "//h/b"))
+        for kind, call, values in (
+            (BadMoment, dates.date_of, (-1, 5000)), (BadZone, dates.date_of, (5, 5000)), (BadDate, dates.date_of, (5, -60)),
+            (BadAddress, addresses.shortest, (1, 2)), (BadAddress, addresses.resolve, ("", "a")),
+        ):
+            with self.assertRaises(kind):
+                call(*values)
+        self.assertEqual((dates.date_of(5, 60), addresses.shortest("//h/a", "//h/b")), before)
+
+    def test_nothing_passed_in_is_changed(self):
+        for file, functions in PARAMETERS.items():
+            for name in functions:
+                function = getattr(importlib.import_module("feedreader." + file), name)
+                for value in ([1, 2], {"a": [1]}, list(DATE), [], (1, [2], 3, 4, 5, 6, 7)):
+                    known = copy.deepcopy(value)
+                    values = [value] * sum(p.default is p.empty for p in inspect.signature(function).parameters.values())
+                    try:
+                        function(*values)
+                    except (BadMoment, BadDate, BadAddress) as error:
+                        self.assertIs(error.given, value)
+                    self.assertEqual(value, known)
+
+
+if __name__ == "__main__":
+    unittest.main()
