@@ -18,8 +18,7 @@ def is_address(value):
 
 def resolve(base, text):
     """The address to which a reference leads from a base (None: from nowhere), None if it leads nowhere."""
-    if base is not None and not is_address(base):
-        raise BadAddress(base)
+    check_base(base)
     if not isinstance(text, str):
         return None
     reference = text.partition("#")[0]
@@ -46,6 +45,17 @@ def shortest(base, address):
         return "//" + goal_host if goal == [""] else address
     ways = [_from_root(goal), _from_folder(segments[:-1], goal)]
     return min(ways, key=lambda text: (len(text), text))
+
+
+def check_base(base):
+    """Refuses what can be no base of references: what is neither None nor an address."""
+    if base is not None and not is_address(base):
+        raise BadAddress(base)
+
+
+def written(base, address):
+    """The reference by which an address is written: the shortest one, without a base the address itself."""
+    return address if base is None else shortest(base, address)
 
 
 def _is_host(text):

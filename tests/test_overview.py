@@ -7,7 +7,7 @@ import inspect
 import unittest
 
 from feedreader import addresses, dates
-from feedreader.errors import BadAddress, BadDate, BadMoment, BadZone
+from feedreader.errors import BadAddress, BadDate, BadEntry, BadMoment, BadText, BadZone
 
 PARAMETERS = {
     "dates": {
@@ -16,6 +16,22 @@ PARAMETERS = {
         "read_short": "(text)",
     },
     "addresses": {"is_address": "(value)", "resolve": "(base, text)", "shortest": "(base, address)"},
+    "pages": {
+        "Entry": "(*, told=None, link=None, headline='', text='', published=None, changed=None)",
+        "Page": "(*, headline='', here=None, older=None, is_archive=False, entries=(), notices=())",
+        "is_notice": "(value)",
+    },
+    "rows": {"write_rows": "(page, base=None)", "read_rows": "(text, base=None)"},
+    "nest": {"write_nest": "(page, base=None)", "read_nest": "(text, base=None)"},
+    "formats": {"read_feed": "(text, base=None)"},
+}
+# Parameters of methods; None stands for a property.
+METHODS = {
+    "pages": {
+        "Entry": dict.fromkeys("told link headline text published changed signs order".split()) | {"__eq__": "(self, other)"},
+        "Page": dict.fromkeys("headline here older is_archive entries notices".split()) | {
+            "__eq__": "(self, other)", "__bool__": "(self)"},
+    },
 }
 DATE = (123, 4, 9, 6, 7, 8, 330)
 
@@ -68,9 +84,21 @@ class OverviewTest(unittest.TestCase):
                 call(*values)
         self.assertEqual((dates.date_of(5, 60), addresses.shortest("//h/a", "//h/b")), before)
 
+    def test_methods_stand_in_their_classes(self):
+        for file, names in METHODS.items():
+            for name, members in names.items():
+                owner = vars(getattr(importlib.import_module("feedreader." + file), name))
+                for member, parameters in members.items():
+                    if parameters is None:
+                        self.assertIsInstance(owner[member], property, member)
+                    else:
+                        self.assertEqual(str(inspect.signature(owner[member])), parameters, member)
+
     def test_nothing_passed_in_is_changed(self):
         for file, functions in PARAMETERS.items():
             for name in functions:
+                if name.startswith("write"):
+                    continue
                 function = getattr(importlib.import_module("feedreader." + file), name)
                 for value in ([1, 2], {"a": [1]}, list(DATE), [], (1, [2], 3, 4, 5, 6, 7)):
                     known = copy.deepcopy(value)
@@ -79,6 +107,8 @@ class OverviewTest(unittest.TestCase):
                         function(*values)
                     except (BadMoment, BadDate, BadAddress) as error:
                         self.assertIs(error.given, value)
+                    except (BadEntry, BadText):
+                        pass
                     self.assertEqual(value, known)
 
 
