@@ -20,6 +20,8 @@ METHODS = set(
     "expandtabs removeprefix removesuffix rindex isascii isdecimal isnumeric istitle isidentifier isprintable translate "
     "add discard sort format maketrans".split()
 )
+# Python's prompt, which the examples of README.md run like, puts a name "_" among the builtins.
+ALL_BUILTINS = set(dir(builtins)) - {"_"}
 OUTSIDE = ("__future__", "heapq", "math", "itertools", "collections")
 WORDS = "typing typing_extensions enum Enum IntEnum StrEnum Flag IntFlag Generic Protocol ABC ABCMeta namedtuple".split()
 FUNCTIONS = (ast.FunctionDef, ast.Lambda)
@@ -75,7 +77,7 @@ class LanguageTest(unittest.TestCase):
                 elif not is_docstring(node):
                     names.append(node.name)
             self.assertEqual(sorted(names), sorted(set(names)), path)
-            self.assertEqual([name for name in names if name in dir(builtins)], [], path)
+            self.assertEqual([name for name in names if name in ALL_BUILTINS], [], path)
 
     def test_imports(self):
         defined = {path.stem: {node.name for node in tree.body if hasattr(node, "name")} | {
@@ -100,8 +102,8 @@ class LanguageTest(unittest.TestCase):
     def test_names(self):
         own = {node.name for _, node in self.each_node(ast.FunctionDef)}
         for place, node in self.each_node(ast.Name):
-            self.assertFalse(node.id in dir(builtins) and node.id not in BUILTINS, f"{place}: {node.id}")
-            self.assertFalse(node.id in dir(builtins) and isinstance(node.ctx, ast.Store), f"{place}: {node.id}")
+            self.assertFalse(node.id in ALL_BUILTINS and node.id not in BUILTINS, f"{place}: {node.id}")
+            self.assertFalse(node.id in ALL_BUILTINS and isinstance(node.ctx, ast.Store), f"{place}: {node.id}")
             self.assertNotIn(node.id, WORDS, place)
         for place, node in self.each_node(ast.arg):
             self.assertNotIn(node.arg, dir(builtins), place)
@@ -115,7 +117,7 @@ class LanguageTest(unittest.TestCase):
             names = node.type.elts if isinstance(node.type, ast.Tuple) else [node.type]
             for name in names:
                 self.assertIsInstance(name, ast.Name, place)
-                self.assertTrue(name.id in caught or name.id not in dir(builtins), place)
+                self.assertTrue(name.id in caught or name.id not in ALL_BUILTINS, place)
 
 
 if __name__ == "__main__":
