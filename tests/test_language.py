@@ -106,7 +106,7 @@ class LanguageTest(unittest.TestCase):
             self.assertFalse(node.id in ALL_BUILTINS and isinstance(node.ctx, ast.Store), f"{place}: {node.id}")
             self.assertNotIn(node.id, WORDS, place)
         for place, node in self.each_node(ast.arg):
-            self.assertNotIn(node.arg, dir(builtins), place)
+            self.assertNotIn(node.arg, ALL_BUILTINS, place)
         for place, node in self.each_node(ast.Call):
             if isinstance(node.func, ast.Attribute):
                 self.assertIn(node.func.attr, METHODS | own | {"__init__"}, place)
