@@ -111,6 +111,29 @@ class LanguageTest(unittest.TestCase):
             if isinstance(node.func, ast.Attribute):
                 self.assertIn(node.func.attr, METHODS | own | {"__init__"}, place)
 
+    def test_expressions(self):
+        for place, node in self.each_node(ast.GeneratorExp, ast.AnnAssign, ast.Assert, ast.Starred):
+            self.assertIsInstance(node, ast.Starred, place)
+        for place, node in self.each_node(ast.Compare):
+            for sign, right in zip(node.ops, node.comparators):
+                if isinstance(sign, (ast.Is, ast.IsNot)):
+                    self.assertTrue(isinstance(right, ast.Constant) and right.value in (None, True, False), place)
+
+    def test_no_name_is_a_property_and_something_else(self):
+        functions = list(self.each_node(ast.FunctionDef))
+        properties = {node.name for _, node in functions if node.decorator_list}
+        for place, node in functions:
+            self.assertTrue(node.decorator_list or node.name not in properties, f"{place}: {node.name}")
+        for place, node in self.each_node(ast.Attribute):
+            self.assertFalse(isinstance(node.ctx, ast.Store) and node.attr in properties, f"{place}: {node.attr}")
+            self.assertFalse(isinstance(node.ctx, ast.Store) and node.attr in METHODS - {"count", "index", "title"}, place)
+
+    def test_names_begin_as_they_may(self):
+        barred = ("_wall", "_pe_", "_dcw_", "_enum_", "_cm_", "_twin_re_", "_lay_", "_law_", "_stub_", "_sre", "_cold", "_record")
+        for place, node in self.each_node(ast.Name, ast.FunctionDef, ast.Attribute, ast.arg):
+            name = getattr(node, "id", None) or getattr(node, "name", None) or getattr(node, "attr", None) or node.arg
+            self.assertFalse(name.startswith(barred), f"{place}: {name}")
+
     def test_handlers(self):
         caught = ("KeyError", "ZeroDivisionError", "StopIteration", "ValueError", "LookupError", "IndexError")
         for place, node in self.each_node(ast.ExceptHandler):
