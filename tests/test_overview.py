@@ -30,9 +30,15 @@ PARAMETERS = {
         "world_of": "(presses, *, style='rows', fresh=0, troubles=())",
     },
     "fetchers": {"Fetcher": "(world)", "Replay": "(log)"},
+    "walks": {"walk": "(fetcher, address, moment, *, known=())"},
+    "shelves": {"Shelf": "()", "growth": "(lesser, greater)"},
+    "papers": {
+        "why_one": "(shelf, one, other)", "why_two": "(shelf, one, other)", "shows": "(shelf, one, other, paper)",
+    },
+    "libraries": {"Library": "(device)"},
 }
 # Nothing is promised for objects that these are not made for.
-UNTOLD = ("write_rows", "write_nest", "rows_of", "world_of", "Fetcher")
+UNTOLD = ("write_rows", "write_nest", "rows_of", "world_of", "Fetcher", "walk")
 # Parameters of methods; None stands for a property.
 METHODS = {
     "pages": {
@@ -50,6 +56,23 @@ METHODS = {
     "fetchers": {
         "Fetcher": dict.fromkeys("asks received moves log".split()) | {"fetch": "(self, address, moment)"},
         "Replay": {"ask": "(self, address, moment, mark=None)"},
+    },
+    "walks": {"Walk": dict.fromkeys("here pages moves remarks word known".split())},
+    "shelves": {
+        "Shelf": dict.fromkeys("sightings moves".split()) | {
+            "see": "(self, feed, thing, moment)", "learn": "(self, old, new)", "take_walk": "(self, walk)",
+            "merged": "(self, *others)", "is_within": "(self, other)", "feed_of": "(self, address)",
+            "all_items": "(self, *, gone=False)", "item_of": "(self, place)", "__or__": "(self, other)",
+            "__contains__": "(self, place)", "__eq__": "(self, other)"},
+        "Item": dict.fromkeys("feed places version time entries is_gone".split()),
+    },
+    "libraries": {
+        "Library": dict.fromkeys("shelf notes".split()) | dict.fromkeys(
+            "mark_read mark_unread star unstar reading_of is_starred".split(), "(self, place)") | {
+            "take_walk": "(self, walk)", "see": "(self, feed, thing, moment)", "learn": "(self, old, new)",
+            "file_feed": "(self, address, folder)", "take": "(self, *others)", "conflicts": "(self)",
+            "folder_of": "(self, address)", "chain": "(self, stamp)", "trial": "(self, function)", "vector": "(self)",
+            "bundle": "(self, vector)", "take_bundle": "(self, bundle)", "rows": "(self)", "counts": "(self)"},
     },
 }
 DATE = (123, 4, 9, 6, 7, 8, 330)
