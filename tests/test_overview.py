@@ -36,6 +36,13 @@ PARAMETERS = {
         "why_one": "(shelf, one, other)", "why_two": "(shelf, one, other)", "shows": "(shelf, one, other, paper)",
     },
     "libraries": {"Library": "(device)"},
+    "searches": {"is_query": "(value)", "search": "(library, query)"},
+    "watches": {"Watch": "(library, query)"},
+    "rivers": {"river": "(library, query, address, *, size=4)"},
+    "plans": {
+        "lost": "(windows, offers)", "cheapest": "(windows, offers)",
+        "shows_cheapest": "(windows, offers, plan, pledges)",
+    },
 }
 # Nothing is promised for objects that these are not made for.
 UNTOLD = ("write_rows", "write_nest", "rows_of", "world_of", "Fetcher", "walk")
@@ -74,6 +81,7 @@ METHODS = {
             "folder_of": "(self, address)", "chain": "(self, stamp)", "trial": "(self, function)", "vector": "(self)",
             "bundle": "(self, vector)", "take_bundle": "(self, bundle)", "rows": "(self)", "counts": "(self)"},
     },
+    "watches": {"Watch": {"result": None, "step": "(self)"}},
 }
 DATE = (123, 4, 9, 6, 7, 8, 330)
 
