@@ -26,6 +26,9 @@ OUTSIDE = ("__future__", "heapq", "math", "itertools", "collections")
 WORDS = "typing typing_extensions enum Enum IntEnum StrEnum Flag IntFlag Generic Protocol ABC ABCMeta namedtuple".split()
 FUNCTIONS = (ast.FunctionDef, ast.Lambda)
 TOP = (ast.ImportFrom, ast.FunctionDef, ast.ClassDef, ast.Assign)
+MODIFYING = set("append clear extend insert pop remove reverse setdefault update sort add discard".split())
+NEW_VALUES = (ast.List, ast.Dict, ast.Set, ast.ListComp, ast.DictComp, ast.SetComp)
+NEW_CALLS = ("list", "dict", "set", "sorted")
 
 
 def files():
@@ -37,6 +40,44 @@ def files():
 def is_docstring(node):
     """Whether it is a text that stands alone."""
     return isinstance(node, ast.Expr) and isinstance(node.value, ast.Constant) and isinstance(node.value.value, str)
+
+
+def is_new(node):
+    """Whether it makes a new list, dict or set."""
+    if isinstance(node, ast.Call):
+        return isinstance(node.func, ast.Name) and node.func.id in NEW_CALLS
+    return isinstance(node, NEW_VALUES) or isinstance(node, ast.Subscript) and isinstance(node.slice, ast.Slice)
+
+
+def root_of(node):
+    """What stands in front of the items, attributes and calls of an expression."""
+    while isinstance(node, (ast.Subscript, ast.Attribute, ast.Call)):
+        node = node.func if isinstance(node, ast.Call) else node.value
+    return node
+
+
+def values_of(function):
+    """By local names of a function: what is assigned to them."""
+    values = {arg.arg: [None] for arg in ast.walk(function.args) if isinstance(arg, ast.arg)}
+    for node in ast.walk(function):
+        if isinstance(node, ast.Assign):
+            for goal in node.targets:
+                for name in ast.walk(goal):
+                    if isinstance(name, ast.Name) and isinstance(name.ctx, ast.Store):
+                        values.setdefault(name.id, []).append(node.value if name is goal else None)
+        elif isinstance(node, (ast.For, ast.comprehension)):
+            for name in ast.walk(node.target):
+                if isinstance(name, ast.Name):
+                    values.setdefault(name.id, []).append(None)
+    return values
+
+
+def sets_of(function):
+    """The local names of a function to which sets are assigned."""
+    kinds = (ast.Set, ast.SetComp)
+    return {name for name, values in values_of(function).items() if any(
+        isinstance(value, kinds) or isinstance(value, ast.Call) and isinstance(value.func, ast.Name) and value.func.id == "set"
+        for value in values)}
 
 
 class LanguageTest(unittest.TestCase):
@@ -133,6 +174,79 @@ class LanguageTest(unittest.TestCase):
         for place, node in self.each_node(ast.Name, ast.FunctionDef, ast.Attribute, ast.arg):
             name = getattr(node, "id", None) or getattr(node, "name", None) or getattr(node, "attr", None) or node.arg
             self.assertFalse(name.startswith(barred), f"{place}: {name}")
+
+    def reached(self, starts):
+        """All functions and methods that these call, by name, also those of properties that they read."""
+        functions = {}
+        for _, _, tree in files():
+            for node in ast.walk(tree):
+                if isinstance(node, ast.FunctionDef):
+                    functions.setdefault(node.name, []).append(node)
+                elif isinstance(node, ast.ClassDef):
+                    functions.setdefault(node.name, []).extend(
+                        inner for inner in node.body if isinstance(inner, ast.FunctionDef) and inner.name == "__init__")
+        found = list(starts)
+        for function in found:
+            names = [node.func.id for node in ast.walk(function) if isinstance(node, ast.Call) and isinstance(node.func, ast.Name)]
+            names += [node.attr for node in ast.walk(function) if isinstance(node, ast.Attribute)]
+            found += [other for name in names for other in functions.get(name, ()) if other not in found]
+        return found
+
+    def test_properties_and_operators_change_nothing_but_what_they_made(self):
+        starts = [node for _, node in self.each_node(ast.FunctionDef)
+                  if node.decorator_list or node.name.startswith("__") and node.name != "__init__"]
+        self.assertGreater(len(starts), 30)
+        for function in self.reached(starts):
+            values = values_of(function)
+            made = {name for name in values if all(value is not None and is_new(value) for value in values[name])}
+            objects = {name for name in values if all(isinstance(value, ast.Call) for value in values[name])} - made
+            for node in ast.walk(function):
+                place = f"{function.name}:{getattr(node, 'lineno', 0)}"
+                if isinstance(node, ast.Attribute) and isinstance(node.ctx, ast.Store):
+                    kept = ast.unparse(node) == "self._gathered" and function.name == "gathered"
+                    own = function.name == "__init__" and ast.unparse(node.value) == "self"
+                    self.assertTrue(kept or own or ast.unparse(node.value) in objects, place)
+                elif isinstance(node, ast.Subscript) and not isinstance(node.ctx, ast.Load):
+                    self.assertTrue(isinstance(node.value, ast.Name) and node.value.id in made, place)
+                elif isinstance(node, ast.Call) and isinstance(node.func, ast.Attribute) and node.func.attr in MODIFYING:
+                    root = root_of(node.func)
+                    self.assertTrue(isinstance(root, ast.Name) and root.id in made, place)
+
+    def test_kept_sets_are_only_asked(self):
+        for place, function in self.each_node(ast.FunctionDef):
+            for name in sets_of(function):
+                self.assertEqual(len(values_of(function)[name]), 1, f"{place}: {name}")
+                asked = set()
+                for node in ast.walk(function):
+                    if isinstance(node, ast.Compare) and isinstance(node.ops[-1], (ast.In, ast.NotIn)):
+                        asked.add(node.comparators[-1])
+                    elif isinstance(node, ast.Call) and isinstance(node.func, ast.Attribute) and node.func.attr in ("add", "discard"):
+                        asked.add(node.func.value)
+                for node in ast.walk(function):
+                    if isinstance(node, ast.Name) and node.id == name and isinstance(node.ctx, ast.Load):
+                        self.assertIn(node, asked, f"{place}: {name}")
+
+    def test_sets_that_are_not_kept(self):
+        for path, _, tree in files():
+            allowed = set()
+            for node in ast.walk(tree):
+                if isinstance(node, ast.Call) and isinstance(node.func, ast.Name) and node.func.id in ("sorted", "len"):
+                    allowed.update(node.args)
+                elif isinstance(node, ast.Compare):
+                    allowed.update(node.comparators)
+                elif isinstance(node, ast.Assign):
+                    allowed.add(node.value)
+            for node in ast.walk(tree):
+                is_set = isinstance(node, ast.Call) and isinstance(node.func, ast.Name) and node.func.id == "set"
+                if is_set or isinstance(node, (ast.Set, ast.SetComp)):
+                    self.assertIn(node, allowed, f"{path}:{node.lineno}")
+
+    def test_finally(self):
+        for place, node in self.each_node(ast.Try):
+            for statement in node.finalbody:
+                self.assertIsInstance(statement, ast.Assign, place)
+                for inner in ast.walk(statement):
+                    self.assertIsInstance(inner, (ast.Assign, ast.Tuple, ast.Attribute, ast.Name, ast.Constant, ast.expr_context), place)
 
     def test_handlers(self):
         caught = ("KeyError", "ZeroDivisionError", "StopIteration", "ValueError", "LookupError", "IndexError")
