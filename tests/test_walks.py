@@ -175,6 +175,15 @@ class PagesTest(RefusalCase):
             self.assertEqual((told.here, told.word, told.pages), (here, "whole", ((C, page("c"), 5),)))
             self.assertEqual(told.moves, fetcher.moves)
 
+    def test_moves_ahead_of_an_older_page(self):
+        for lasting, moves in (((True, True), ((B, C), (C, D))), ((True, False), ((B, C),)), ((False, True), ((C, D),)), ((False, False), ())):
+            fetcher = plan((A, page("a", B)), (B, ("moved", C, lasting[0])), (C, ("moved", D, lasting[1])), (D, page("d", None, True)))
+            for moment, asks in ((5, 4), (6, 4 - sum(lasting))):
+                known = fetcher.asks
+                told = walk(fetcher, A, moment)
+                self.assertEqual(all_of(told), (A, ((A, page("a", B), moment), (D, page("d", None, True), moment)), moves, (), "whole", (D,)))
+                self.assertEqual(fetcher.asks - known, asks)
+
     def test_here_is_none_without_pages(self):
         fetcher = plan((A, ("moved", B, True)), (B, GONE))
         told = walk(fetcher, A, 5)
